@@ -64,8 +64,9 @@ func TestP11_7_SeveralGoroutines(t *testing.T) {
 		for _, x := range each(m) {
 			want[x] = x.does(c)
 			isError(t, brief(x), want[x].e, api.OK)
-			// Each URL is asked for so often that these befall requests of several.
-			for attempt := 3; attempt < 200; attempt += 3 {
+			// Each URL is asked for so often that these befall requests of several;
+			// they are fewer than MaxTries, so that none can meet too many.
+			for attempt := 3; attempt < 3*api.MaxTries; attempt += 3 {
 				f := []net.Fault{lost(), busy(), late(6)}[attempt%9/3]
 				f.URL, f.Attempt = x.url(), attempt
 				done(t, n.Add(f))
