@@ -170,7 +170,8 @@ func (s *step) previous(m api.Mod) (string, bool) {
 	versions, _ := s.u.Versions(m.Path)
 	var best string
 	for _, version := range versions {
-		if mod.Compare(version, m.Version) < 0 && !excluded(s.file, api.Mod{Path: m.Path, Version: version}) {
+		less := mod.ValidVersion(version) && mod.Compare(version, m.Version) < 0
+		if less && !excluded(s.file, api.Mod{Path: m.Path, Version: version}) {
 			best = mod.Max(best, version)
 		}
 	}

@@ -87,7 +87,7 @@ func short(m api.Mod) string {
 	if found := plainWord.FindStringSubmatch(m.Path + " " + m.Version); found != nil {
 		return found[1] + found[2]
 	}
-	return m.Path + "@" + m.Version
+	return strings.TrimPrefix(m.Path, "a.x/") + "@" + m.Version
 }
 
 // told are modules' short texts.
@@ -471,7 +471,7 @@ func TestShortTexts(t *testing.T) {
 	is(t, "b2", word("b2"), api.Mod{Path: "a.x/b", Version: "v1.2.0"})
 	is(t, "b/q10", word("b/q10"), api.Mod{Path: "a.x/b/q", Version: "v1.10.0"})
 	is(t, "b@v2.0.0", word("b@v2.0.0"), api.Mod{Path: "a.x/b", Version: "v2.0.0"})
-	is(t, "told", told(mods("main b2 b/q10 c.c@v2.0.0")), "main b2 b/q10 c.c@v2.0.0")
+	is(t, "told", told(mods("main b2 b/q10 b@v1.0.0-rc c.c@v2.0.0")), "main b2 b/q10 b@v1.0.0-rc c.c@v2.0.0")
 	p := project("b0 d1! -b2 b=z0 b1=z.z@v1.0.0 ~ / .>b,fmt,main/q q")
 	is(t, "a manifest", p.Manifest, "module m.n/p // its name\nrequire a.x/b v1.0.0\nrequire a.x/d v1.1.0 // indirect\nexclude a.x/b v1.2.0\nreplace a.x/b => a.x/z v1.0.0\nreplace a.x/b v1.1.0 => z.z v1.0.0\ngo 1.17\n")
 	is(t, "sources", toldFiles(p.Sources), toldFiles([]api.File{file("x.go", "package p\nimport \"a.x/b\"\nimport \"fmt\"\nimport \"m.n/p/q\"\n"), file("q/x.go", "package p\n")}))

@@ -1,7 +1,6 @@
 package plan
 
 import (
-	"slices"
 	"sync"
 
 	"mews/api"
@@ -58,9 +57,11 @@ func inPlace(f modfile.File, list []api.Mod) []api.Mod {
 // once is lines, each once: what stands in the place of two modules has its
 // lines twice.
 func once(lines []sumfile.Line) []sumfile.Line {
+	seen := map[sumfile.Line]struct{}{}
 	var list []sumfile.Line
 	for _, line := range lines {
-		if !slices.Contains(list, line) {
+		if _, twice := seen[line]; !twice {
+			seen[line] = struct{}{}
 			list = append(list, line)
 		}
 	}

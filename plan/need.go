@@ -128,7 +128,7 @@ func (s *search) lookFor(path string, byMain bool) (string, api.Errno) {
 	if e != api.OK {
 		return "", e
 	}
-	dir := dirOf(module, path)
+	dir, _ := dirOf(module, path)
 	if _, has := there[dir]; !has {
 		return "", api.ErrMissing
 	}
@@ -137,11 +137,6 @@ func (s *search) lookFor(path string, byMain bool) (string, api.Errno) {
 		s.direct[module] = struct{}{}
 	}
 	return "", api.OK
-}
-
-// dirOf is the directory of an import that is a module's.
-func dirOf(module, path string) string {
-	return strings.TrimPrefix(strings.TrimPrefix(path, module), "/")
 }
 
 // vendored is what is needed of the modules of the build list but main.

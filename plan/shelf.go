@@ -17,11 +17,7 @@ func newShelf(files []api.File, tags []string) (shelf, api.Errno) {
 	if e != api.OK {
 		return nil, e
 	}
-	within := map[string][]api.File{}
-	for _, f := range files {
-		dir, _ := split(f.Name)
-		within[dir] = append(within[dir], f)
-	}
+	within := byDir(files)
 	s := shelf{}
 	for _, dir := range dirs {
 		if s[dir], e = scan.Imports(within[dir], dir, tags); e != api.OK {
@@ -29,6 +25,16 @@ func newShelf(files []api.File, tags []string) (shelf, api.Errno) {
 		}
 	}
 	return s, api.OK
+}
+
+// byDir is files by their directories.
+func byDir(files []api.File) map[string][]api.File {
+	within := map[string][]api.File{}
+	for _, f := range files {
+		dir, _ := split(f.Name)
+		within[dir] = append(within[dir], f)
+	}
+	return within
 }
 
 // split is a name's directory, and what stands behind it.
@@ -46,4 +52,14 @@ func importPath(module, dir string) string {
 		return module
 	}
 	return module + "/" + dir
+}
+
+// dirOf is the directory of a module that an import's path says, if that is the
+// module's.
+func dirOf(module, path string) (string, bool) {
+	if path == module {
+		return "", true
+	}
+	dir, inside := strings.CutPrefix(path, module+"/")
+	return dir, inside && dir != ""
 }

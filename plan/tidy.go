@@ -67,6 +67,7 @@ func (s *step) provides(module, path string) (api.Mod, bool) {
 	if e != api.OK {
 		return api.Mod{}, false
 	}
-	_, has := packages[dirOf(module, path)]
+	dir, _ := dirOf(module, path)
+	_, has := packages[dir]
 	return m, has
 }

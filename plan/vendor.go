@@ -42,19 +42,20 @@ func vendorOf(f modfile.File, need []sumfile.Vendored, u Universe, tags []string
 	return tree, api.OK
 }
 
-// vendorModule is the files of a module's packages. A module without any is not
-// asked for its files.
+// vendorModule is the files of a module's packages.
 func vendorModule(f modfile.File, v sumfile.Vendored, u Universe, tags []string) ([]api.File, api.Errno) {
-	if len(v.Packages) == 0 {
-		return nil, api.OK
-	}
 	files, e := u.Tree(modfile.Replaced(f, v.Mod))
 	if e != api.OK {
 		return nil, e
 	}
+	within := byDir(files)
 	var list []api.File
 	for _, path := range v.Packages {
-		of, e := vendorPackage(files, v.Mod.Path, path, tags)
+		dir, inside := dirOf(v.Mod.Path, path)
+		if !inside {
+			continue
+		}
+		of, e := vendorPackage(within[dir], path, tags)
 		if e != api.OK {
 			return nil, e
 		}
@@ -63,12 +64,12 @@ func vendorModule(f modfile.File, v sumfile.Vendored, u Universe, tags []string)
 	return list, api.OK
 }
 
-// vendorPackage is those of a module's files that a package has.
-func vendorPackage(files []api.File, module, path string, tags []string) ([]api.File, api.Errno) {
+// vendorPackage is those of a directory's files that its package has.
+func vendorPackage(files []api.File, path string, tags []string) ([]api.File, api.Errno) {
 	var list []api.File
 	for _, file := range files {
-		dir, base := split(file.Name)
-		if importPath(module, dir) != path || !scan.Name(base, tags) {
+		_, base := split(file.Name)
+		if !scan.Name(base, tags) {
 			continue
 		}
 		source, _, e := scan.Read(string(file.Data))
