@@ -339,10 +339,11 @@ func (d drawn) String() string {
 }
 
 // draws is how many a test tries.
-const draws = 8000
+const draws = 6000
 
 // What commands make of projects, by both readings.
 func TestP16_6_Drawn(t *testing.T) {
+	t.Parallel()
 	n := tally{}
 	for seed := range draws {
 		r := rand.New(rand.NewSource(int64(seed)))
@@ -351,7 +352,7 @@ func TestP16_6_Drawn(t *testing.T) {
 		if wantE == api.OK && d.command.Kind == plan.CVendor {
 			want.Manifest = d.project.Manifest
 		}
-		for _, workers := range []int{1, some(r, 2, 3, 7, api.MaxWorkers)} {
+		for _, workers := range []int{1, some(r, 2, 3, 7, 8, 9, api.MaxWorkers)} {
 			next, e := plan.Step(d.project, d.command, d.u, d.model.tags, workers)
 			if e != wantE || toldProject(next) != toldProject(want) {
 				t.Fatalf("seed %d, %s\nanswers %d %s\nnot %d %s", seed, d, e, toldProject(next), wantE, toldProject(want))
@@ -418,6 +419,7 @@ func formOf(t *testing.T, text string) string {
 
 // The other calls, by both readings.
 func TestP16_2_Drawn(t *testing.T) {
+	t.Parallel()
 	n := tally{}
 	for seed := range draws {
 		d := draw(t, rand.New(rand.NewSource(int64(seed))), seed%2 == 1)
@@ -448,6 +450,7 @@ func TestP16_2_Drawn(t *testing.T) {
 }
 
 func TestP16_3_Drawn(t *testing.T) {
+	t.Parallel()
 	n := tally{}
 	for seed := range draws {
 		d := draw(t, rand.New(rand.NewSource(int64(seed))), seed%2 == 1)
