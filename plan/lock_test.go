@@ -211,9 +211,11 @@ func (yes) Versions(string) ([]string, api.Errno)  { return nil, api.OK }
 func (yes) Manifest(m api.Mod) ([]byte, api.Errno) { return []byte("module " + m.Path + "\n"), api.OK }
 func (yes) Tree(api.Mod) ([]api.File, api.Errno)   { return nil, api.OK }
 
-// gate is a universe that answers nobody for a manifest until so many ask.
+// gate is a universe that answers nobody for a manifest, or for files, until so
+// many ask.
 type gate struct {
 	plan.Universe
+	trees      bool // for files
 	lock       sync.Mutex
 	came, want int
 	open       chan struct{}
@@ -221,6 +223,20 @@ type gate struct {
 }
 
 func (g *gate) Manifest(m api.Mod) ([]byte, api.Errno) {
+	if !g.trees {
+		g.wait()
+	}
+	return g.Universe.Manifest(m)
+}
+
+func (g *gate) Tree(m api.Mod) ([]api.File, api.Errno) {
+	if g.trees {
+		g.wait()
+	}
+	return g.Universe.Tree(m)
+}
+
+func (g *gate) wait() {
 	g.lock.Lock()
 	if g.came++; g.came == g.want {
 		close(g.open)
@@ -233,7 +249,6 @@ func (g *gate) Manifest(m api.Mod) ([]byte, api.Errno) {
 		g.late = true
 		g.lock.Unlock()
 	}
-	return g.Universe.Manifest(m)
 }
 
 func TestP16_4_Workers(t *testing.T) {

@@ -116,6 +116,8 @@ func TestP16_6_GetLatest(t *testing.T) {
 	makes(t, project("b0"), "get b", odd, "b10", "b10")
 	makesNot(t, project("b0"), "get e", odd, api.ErrNone)
 	makesNot(t, project("b0"), "get f", odd, api.ErrNone)
+	odd.versions["a.x/c"] = []string{"v1.0.0-b", "v1.0.0-a.1"}
+	makes(t, project(""), "get c", odd, "c@v1.0.0-b", "c@v1.0.0-b")
 }
 
 // said is a universe that says other versions.
@@ -371,6 +373,26 @@ func TestP16_6_Vendor(t *testing.T) {
 	}
 }
 
+// A vendored tree's list may be too long for a text.
+func TestP16_6_VendorLong(t *testing.T) {
+	var many []string
+	for i := range 720 {
+		many = append(many, fmt.Sprintf("q%s%s", strings.Repeat("r", 80), letters(i)+letters(i/26)))
+	}
+	u := still(t, "b0: / "+strings.Join(many, " "))
+	imports := func(count int) plan.Project {
+		p := project("b0")
+		for i, dir := range many[:count] {
+			p.Sources = append(p.Sources, file(fmt.Sprint("x", i, ".go"), source("a.x/b/"+dir)))
+		}
+		return p
+	}
+	next, e := plan.Step(imports(700), command("vendor"), u, nil, 3)
+	is(t, "a long list, error", e, api.OK)
+	is(t, "a long list", len(next.Vendor), 701)
+	makesNot(t, imports(720), "vendor", u, api.ErrLong)
+}
+
 // The lock that was there counts for all commands: lines that are not among the
 // new ones go.
 func TestP16_6_Locked(t *testing.T) {
@@ -383,6 +405,19 @@ func TestP16_6_Locked(t *testing.T) {
 			p.Lock = lock
 			is(t, c+", the lock", steps(t, p, c, u).Lock, want.Lock)
 			is(t, c+", the manifest", steps(t, p, c, u).Manifest, want.Manifest)
+		}
+	}
+}
+
+// The lock is worked out by as many as are handed in.
+func TestP16_6_Workers(t *testing.T) {
+	u := still(t, "b0: c0 / .; c0: d0 / .; d0: / .; e0: / .; e1: / .")
+	for _, c := range []string{"get e v1.1.0", "upgrade", "downgrade e v1.0.0", "vendor"} {
+		for _, workers := range []int{1, 2, 4} {
+			g := &gate{Universe: u, trees: true, want: workers, open: make(chan struct{})}
+			_, e := plan.Step(project("b0 e0"), command(c), g, nil, workers)
+			is(t, c+", error", e, api.OK)
+			is(t, fmt.Sprint(c, ", fewer than ", workers, " at once"), g.late, false)
 		}
 	}
 }

@@ -1,6 +1,7 @@
 package plan
 
 import (
+	"slices"
 	"strings"
 
 	"mews/api"
@@ -29,11 +30,10 @@ func (s *step) tidy() (choice, api.Errno) {
 	return choice{}, api.ErrMany
 }
 
-// requiring is the manifest with a module in the place of another one of its
-// path, or besides.
+// requiring is the manifest with one more required module. If its path stands
+// there already, then at a version that is excluded, which nobody looks at.
 func requiring(f modfile.File, m api.Mod) modfile.File {
-	f, _ = modfile.DropRequire(f, m.Path)
-	f.Require = append(f.Require, modfile.Require{Path: m.Path, Version: m.Version})
+	f.Require = append(slices.Clone(f.Require), modfile.Require{Path: m.Path, Version: m.Version})
 	return f
 }
 

@@ -66,6 +66,10 @@ func TestP16_5_Vendor(t *testing.T) {
 	// A directory that has nothing, or a module without packages.
 	vendors(t, project(""), "b0: b/none b/q/none", u, "", listing("# a.x/b v1.0.0\na.x/b/none\na.x/b/q/none\n"))
 	vendors(t, project(""), "b0:; d0: d", u, "", file("a.x/d/x.go", source()), listing("# a.x/b v1.0.0\n# a.x/d v1.0.0\na.x/d\n"))
+	// Nothing ahead of the last slash is the module itself.
+	odd := sold("b0:")
+	odd[0].Files = []api.File{file("/x.go", "package b"), file("y.go", "package b")}
+	vendors(t, project(""), "b0: b", stillOf(t, odd), "", file("a.x/b/x.go", "package b"), file("a.x/b/y.go", "package b"), listing("# a.x/b v1.0.0\na.x/b\n"))
 	// What stands in a module's place has its files, by the module's name.
 	vendors(t, project("d=z0"), "d0: d", u, "", file("a.x/d/x.go", source("a.x/z")), listing("# a.x/d v1.0.0\na.x/d\n"))
 	vendors(t, project("d=b0"), "d0: d/q/r", u, "", file("a.x/d/q/r/r.go", "package r\n"), listing("# a.x/d v1.0.0\na.x/d/q/r\n"))
@@ -148,6 +152,12 @@ func TestP16_5_Errors(t *testing.T) {
 	vendorsNot(t, project(""), "b@v2.0.0: b", yes{}, api.ErrMajor)
 	vendorsNot(t, project(""), "b0: b", nil, api.ErrRange)
 	vendors(t, project(""), "", nil, "", listing(""))
+	// A package that is no directory of its module has no files, whatever the
+	// module's directories are named.
+	l = sold("b0: / .")
+	l[0].Files = append(l[0].Files, file("z.z/y/bad.go", "x"), file("a.x/d/bad.go", "x"))
+	vendorsNot(t, project(""), "b0: z.z/y", stillOf(t, l), api.ErrForm)
+	vendorsNot(t, project(""), "b0: d", stillOf(t, l), api.ErrForm)
 	// Neither manifests nor versions are asked for, and the files once a module.
 	w := &watched{Universe: u}
 	vendors(t, project(""), "b0: b b/q", w, "", file("a.x/b/q/x.go", source()), file("a.x/b/x.go", source()), listing("# a.x/b v1.0.0\na.x/b\na.x/b/q\n"))
